@@ -1,0 +1,1 @@
+"""Loanplan: what is left of a loan, day by day."""
