@@ -1,11 +1,25 @@
 """A loan: what is left of it, and the interest that is begun, day by day."""
 
-from loanplan.errors import BadAmount, BadDay, BadPay
-from loanplan.rates import LAST_DAY, check_pair, checked, grown
+from loanplan.errors import BadAmount, BadPay
+from loanplan.rates import check_day, check_pair, checked, grown
 
 HIGHEST_AMOUNT = 1000000000000
 # Begun interest is counted in millionths of a cent.
 MILLION = 1000000
+
+
+def cents_owed(left, begun):
+    """Count what is owed in cents, a begun cent counted whole."""
+    return left + (begun + MILLION - 1) // MILLION
+
+
+def paid_down(left, begun, cents):
+    """Tell (left, begun) behind a payment of at most what is owed."""
+    if cents == cents_owed(left, begun):
+        # The last cent of interest may only be begun; paying all ends it too.
+        return 0, 0
+    interest = min(cents, begun // MILLION)
+    return left - (cents - interest), begun - interest * MILLION
 
 
 class Loan:
@@ -21,33 +35,24 @@ class Loan:
 
     def stand(self, day):
         """Tell (left, begun) as they are on a day where nothing is paid till then."""
-        if day < self.day or day > LAST_DAY:
-            raise BadDay(f"a day is from the loan's own, {self.day}, to {LAST_DAY}")
+        check_day(day, self.day)
         return self.left, self.begun + self.left * grown(self.rates, self.day, day)
 
     def owed(self, day):
         """Tell the cents that are owed on a day, a begun cent counted whole."""
         left, begun = self.stand(day)
-        return left + (begun + MILLION - 1) // MILLION
+        return cents_owed(left, begun)
 
     def pay(self, day, cents):
         """Pay cents on a day, interest first, and tell them as (interest, off)."""
         left, begun = self.stand(day)
-        owed = self.owed(day)
+        owed = cents_owed(left, begun)
         if cents < 1 or cents > owed:
             raise BadPay(f"a payment is from 1 to what is owed, {owed} cents")
-        if cents == owed:
-            # The last cent of interest may only be begun; paying all ends it too.
-            interest = cents - left
-            begun = 0
-        else:
-            interest = min(cents, begun // MILLION)
-            begun -= interest * MILLION
-        off = cents - interest
-        self.left = left - off
-        self.begun = begun
+        self.left, self.begun = paid_down(left, begun, cents)
         self.day = day
-        return interest, off
+        off = left - self.left
+        return cents - off, off
 
     def change(self, day, rate):
         """Let a rate count from a day on that is later than all days so far."""

@@ -17,10 +17,15 @@ def checked(rates):
     return list(rates)
 
 
+def check_day(day, first):
+    """Refuse a day that is earlier than `first` or behind the last day of all."""
+    if day < first or day > LAST_DAY:
+        raise BadDay(f"a day is here from {first} to {LAST_DAY}")
+
+
 def check_pair(day, rate, ahead):
     """Refuse a pair whose day is not later than `ahead`, or that is out of bounds."""
-    if day <= ahead or day > LAST_DAY:
-        raise BadDay(f"the day of a rate is later than {ahead} and at most {LAST_DAY}")
+    check_day(day, ahead + 1)
     if rate < 0 or rate > HIGHEST_RATE:
         raise BadRate(f"a rate is from 0 to {HIGHEST_RATE}")
 

@@ -3,7 +3,7 @@
 import inspect
 import unittest
 
-from loanplan import errors, loans, rates
+from loanplan import desk, errors, loans, notes, plans, rates
 
 
 def arguments(function):
@@ -16,14 +16,26 @@ class InterfaceTest(unittest.TestCase):
             with self.subTest(name=name):
                 self.assertEqual(getattr(errors, name).__module__, "loanplan.errors")
 
-    def test_functions_of_rates(self):
-        listed = {"checked": ["rates"], "rate_on": ["rates", "day"], "grown": ["rates", "start", "end"]}
+    def functions(self, home, listed):
         for name, told in listed.items():
             with self.subTest(name=name):
-                function = getattr(rates, name)
+                function = getattr(home, name)
                 self.assertTrue(inspect.isfunction(function))
-                self.assertEqual(function.__module__, "loanplan.rates")
+                self.assertEqual(function.__module__, home.__name__)
                 self.assertEqual(arguments(function), told)
+
+    def test_functions_of_rates(self):
+        listed = {"checked": ["rates"], "rate_on": ["rates", "day"], "grown": ["rates", "start", "end"]}
+        self.functions(rates, listed)
+
+    def test_functions_of_plans(self):
+        listed = {"plan": ["loan", "days", "part"], "least_part": ["loan", "days"], "cost": ["loan", "days", "part"]}
+        self.functions(plans, listed)
+        self.functions(plans, {"saved": ["loan", "days", "part", "day", "cents"]})
+
+    def test_functions_of_notes_and_desk(self):
+        self.functions(notes, {"read": ["line"], "shown": ["note"]})
+        self.functions(desk, {"desk": ["amount", "rate", "lines"]})
 
     def test_the_class_loan(self):
         self.assertTrue(inspect.isclass(loans.Loan))
